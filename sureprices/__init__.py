@@ -1,0 +1,1 @@
+"""Sureprices: price rules decided for all baskets of any size."""

@@ -1,0 +1,61 @@
+"""Where the interface stands, and the sizes that the package keeps to."""
+
+import ast
+import pathlib
+import unittest
+
+import sureprices
+
+PACKAGE = pathlib.Path(sureprices.__file__).parent
+
+INTERFACE = {
+    "errors": {
+        "PriceError": None, "InvalidShop": None, "InvalidBasket": None, "InvalidActs": None,
+        "InvalidAct": None, "InvalidOffers": None, "InvalidKinds": None, "InvalidNumber": None,
+        "Different": None, "NoFault": None, "NotThere": None, "NothingToUndo": None,
+        "ParseError": None},
+    "shops": {"is_shop": ["value"], "is_basket": ["shop", "value"]},
+    "charges": {
+        "amounts": ["shop", "basket"], "charge": ["shop", "basket"], "uses": ["shop", "basket"],
+        "gain": ["shop", "basket"]},
+}
+
+
+def tree_of(path):
+    return ast.parse(path.read_text(encoding="ascii"))
+
+
+class Interface(unittest.TestCase):
+    def test_each_name_is_defined_in_its_file(self):
+        for name, parts in INTERFACE.items():
+            body = tree_of(PACKAGE / (name + ".py")).body
+            functions = {node.name: [argument.arg for argument in node.args.args]
+                         for node in body if isinstance(node, ast.FunctionDef)}
+            classes = {node.name: None for node in body if isinstance(node, ast.ClassDef)}
+            found = {**functions, **classes}
+            for part, arguments in parts.items():
+                self.assertIn(part, found)
+                self.assertEqual(found[part], arguments)
+
+
+class Sizes(unittest.TestCase):
+    def paths(self):
+        return [path for path in sorted(PACKAGE.rglob("*")) if "__pycache__" not in path.parts]
+
+    def test_only_files_of_the_program(self):
+        for path in self.paths():
+            self.assertEqual(path.suffix, ".py")
+
+    def test_lines(self):
+        for path in self.paths():
+            lines = path.read_text(encoding="ascii").splitlines()
+            self.assertLessEqual(len(lines), 399, path)
+            for line in lines:
+                self.assertLessEqual(len(line), 120, path)
+                self.assertNotIn("\t", line, path)
+
+    def test_functions(self):
+        for path in self.paths():
+            for node in ast.walk(tree_of(path)):
+                if isinstance(node, ast.FunctionDef):
+                    self.assertLessEqual(node.end_lineno - node.lineno + 1, 40, node.name)
