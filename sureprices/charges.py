@@ -75,10 +75,15 @@ def amounts_of(shop, basket):
     return tuple([good_amount(shop, good, pieces) for good, pieces in enumerate(basket)])
 
 
+def left_of(rules, total):
+    """Return what the rules on sums leave of a total."""
+    left, _ = apply_sums(rules, total)
+    return left
+
+
 def charge_of(shop, basket):
     """Return the charge of a basket."""
-    left, _ = apply_sums(shop[1], sum(amounts_of(shop, basket)))
-    return left
+    return left_of(shop[1], sum(amounts_of(shop, basket)))
 
 
 def uses_of(shop, basket):
@@ -93,10 +98,14 @@ def uses_of(shop, basket):
     return tuple(counts)
 
 
+def costs_of(shop, basket):
+    """Return the sum of the costs of the pieces of a basket."""
+    return sum([good[1] * pieces for good, pieces in zip(shop[0], basket)])
+
+
 def gain_of(shop, basket):
     """Return the charge of a basket less the sum of the costs of its pieces."""
-    costs = sum([good[1] * pieces for good, pieces in zip(shop[0], basket)])
-    return charge_of(shop, basket) - costs
+    return charge_of(shop, basket) - costs_of(shop, basket)
 
 
 def amounts(shop, basket):

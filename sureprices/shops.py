@@ -7,12 +7,15 @@ MOST_RULES = 4
 MOST_PIECES = 1000000
 
 
+def is_integer(value):
+    """Return whether value is an integer."""
+    # Python counts True and False as integers, the document does not.
+    return isinstance(value, int) and not isinstance(value, bool)
+
+
 def is_between(value, low, high):
     """Return whether value is an integer from low to high."""
-    # Python counts True and False as integers, the document does not.
-    if isinstance(value, bool) or not isinstance(value, int):
-        return False
-    return low <= value <= high
+    return is_integer(value) and low <= value <= high
 
 
 def is_tuple_of(value, length):
@@ -121,12 +124,17 @@ def check_shop(shop):
         raise InvalidShop("this is not a shop")
 
 
+def are_pieces(shop, value):
+    """Return whether value is a basket of a shop, of any size; the shop is not checked."""
+    if not is_tuple_of(value, len(shop[0])):
+        return False
+    return all([is_integer(pieces) and pieces >= 0 for pieces in value])
+
+
 def is_basket(shop, value):
     """Return whether value, which may be any object, is a basket of a shop."""
     check_shop(shop)
-    if not is_tuple_of(value, len(shop[0])):
-        return False
-    return all([is_between(pieces, 0, MOST_PIECES) for pieces in value])
+    return are_pieces(shop, value) and max(value) <= MOST_PIECES
 
 
 def check_basket(shop, basket):

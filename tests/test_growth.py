@@ -3,7 +3,9 @@
 import unittest
 
 from sureprices.charges import amounts, charge
+from sureprices.growth import cycles
 
+from tests.plain import plain_charge
 from tests.samples import PAIR, SHOP, mixed_shops, shops_of_one_good
 
 STARTS = (1000, 77777, 999900)
@@ -78,3 +80,31 @@ class Growth(unittest.TestCase):
             for basket in far_baskets(shop):
                 grown = charge(shop, (basket[0] + paid,)) - charge(shop, basket)
                 self.assertEqual(grown, left, (shop, basket))
+
+
+class Cycles(unittest.TestCase):
+    """The number of pieces from which on charges grow evenly, whatever else is in the basket."""
+
+    def check(self, shop, most, rest):
+        for good, (start, pieces, growth) in enumerate(cycles(shop)):
+            self.assertGreater(pieces, 0)
+            self.assertGreater(growth, 0)
+            for extra in range(most):
+                for others in range(rest if len(shop[0]) > 1 else 1):
+                    few = with_more((others,) * len(shop[0]), good, start + extra - others)
+                    many = with_more(few, good, pieces)
+                    grown = plain_charge(shop, many) - plain_charge(shop, few)
+                    self.assertEqual(grown, growth, (shop, few, many))
+
+    def test_one_good(self):
+        for shop in shops_of_one_good():
+            self.check(shop, 20, 1)
+
+    def test_low_prices(self):
+        for _, rules in mixed_shops(800):
+            rules = tuple(rule for rule in rules if rule[0] in ("over", "each"))
+            self.check((((1, 0),), rules), 20, 1)
+
+    def test_mixed_shops(self):
+        for shop in mixed_shops(300):
+            self.check(shop, 8, 3)

@@ -18,6 +18,17 @@ INTERFACE = {
     "charges": {
         "amounts": ["shop", "basket"], "charge": ["shop", "basket"], "uses": ["shop", "basket"],
         "gain": ["shop", "basket"]},
+    "faults": {
+        "has_less": ["shop"], "first_less": ["shop"], "box": ["shop"], "has_loss": ["shop"],
+        "some_loss": ["shop"], "is_fault": ["shop", "value"]},
+    "acts": {
+        "are_acts": ["shop", "value"], "shop_under": ["shop", "acts"],
+        "touches": ["shop", "acts", "act", "basket"]},
+    "cures": {
+        "are_offers": ["shop", "value"], "price_of": ["shop", "offers", "acts"],
+        "is_cure": ["shop", "offers", "kinds", "acts"],
+        "least_price": ["shop", "offers", "kinds"], "all_cheapest": ["shop", "offers", "kinds"],
+        "sure_acts": ["shop", "offers", "kinds"]},
 }
 
 

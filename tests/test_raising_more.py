@@ -1,0 +1,164 @@
+"""Exceptions of the functions on faults, acts and cures, and what they leave as it is."""
+
+import copy
+import unittest
+
+from sureprices.acts import are_acts, shop_under, touches
+from sureprices.cures import (
+    all_cheapest, are_offers, is_cure, least_price, price_of, sure_acts)
+from sureprices.errors import (
+    InvalidAct, InvalidActs, InvalidBasket, InvalidKinds, InvalidOffers, InvalidShop, NoFault)
+from sureprices.faults import box, first_less, has_less, has_loss, is_fault, some_loss
+
+from tests.act_samples import (
+    FULL, FULL_ACTS, KINDS, OFF, WRONG_ACT, WRONG_ACTS, WRONG_KINDS, WRONG_OFFERS)
+from tests.samples import PAIR, SHOP, WRONG_BASKETS, WRONG_SHOPS
+
+OF_A_SHOP = (has_less, first_less, box, has_loss, some_loss)
+OF_A_VALUE = (is_fault, are_acts, are_offers)
+OF_KINDS = (least_price, all_cheapest, sure_acts)
+
+# Each function with right arguments, and what it raises if each of them is wrong.
+CALLS = tuple((function, (SHOP,), (InvalidShop,)) for function in OF_A_SHOP) + tuple(
+    (function, (SHOP, ()), (InvalidShop, None)) for function in OF_A_VALUE) + (
+        (shop_under, (SHOP, (("off", 1),)), (InvalidShop, InvalidActs)),
+        (touches, (SHOP, (("off", 1),), ("most", 0, 1), (6,)),
+         (InvalidShop, InvalidActs, InvalidAct, InvalidBasket)),
+        (price_of, (SHOP, OFF, (("off", 1),)), (InvalidShop, InvalidOffers, InvalidActs)),
+        (is_cure, (SHOP, OFF, ("loss",), (("off", 1),)),
+         (InvalidShop, InvalidOffers, InvalidKinds, InvalidActs))) + tuple(
+             (function, (SHOP, OFF, ("loss",)), (InvalidShop, InvalidOffers, InvalidKinds))
+             for function in OF_KINDS)
+
+WRONG = {
+    InvalidShop: WRONG_SHOPS, InvalidActs: WRONG_ACTS, InvalidAct: WRONG_ACT,
+    InvalidBasket: WRONG_BASKETS, InvalidOffers: WRONG_OFFERS, InvalidKinds: WRONG_KINDS}
+
+
+def with_wrong(arguments, place, value):
+    return arguments[:place] + (value,) + arguments[place + 1:]
+
+
+class Raising(unittest.TestCase):
+    def check(self, function, arguments, error):
+        with self.assertRaises(error) as caught:
+            function(*arguments)
+        self.assertIs(caught.exception.__class__, error)
+
+    def test_right_arguments(self):
+        for function, arguments, _ in CALLS:
+            function(*arguments)
+
+    def test_one_wrong_argument(self):
+        for function, arguments, errors in CALLS:
+            for place, error in enumerate(errors):
+                for value in WRONG.get(error, ()):
+                    self.check(function, with_wrong(arguments, place, value), error)
+
+    def test_several_wrong_arguments(self):
+        for function, arguments, errors in CALLS:
+            for place, error in enumerate(errors):
+                for later in range(place + 1, len(errors)):
+                    for value in WRONG.get(errors[later], (None,)):
+                        for first in WRONG.get(error, ())[-3:]:
+                            both = with_wrong(arguments, later, value)
+                            self.check(function, with_wrong(both, place, first), error)
+
+    def test_all_arguments_wrong(self):
+        for function, arguments, errors in CALLS:
+            for place, error in enumerate(errors):
+                if error is not None:
+                    wrong = arguments[:place] + (None,) * (len(arguments) - place)
+                    self.check(function, wrong, error)
+
+    def test_no_fault_after_the_shop(self):
+        fine = (((5, 3),), ())
+        for function in (first_less, some_loss):
+            self.check(function, (fine,), NoFault)
+            self.check(function, (list(fine),), InvalidShop)
+
+    def test_acts_of_another_shop(self):
+        self.check(shop_under, (PAIR, (("most", 0, 1),)), InvalidActs)
+        self.check(shop_under, (SHOP, (("off", 2),)), InvalidActs)
+        self.check(shop_under, (FULL, FULL_ACTS[:9]), InvalidActs)
+        self.check(touches, (FULL, FULL_ACTS[:9], ("off", 0), (1,)), InvalidActs)
+        self.check(touches, (PAIR, (), ("most", 0, 1), (1, 1)), InvalidAct)
+        self.check(touches, (SHOP, (), ("most", 1, 1), (1,)), InvalidAct)
+
+    def test_baskets_of_touches(self):
+        for basket in ((10 ** 6 + 1,), (1, 1), (), (-1,), [1]):
+            self.check(touches, (SHOP, (), ("off", 0), basket), InvalidBasket)
+        touches(SHOP, (), ("off", 0), (10 ** 6,))
+
+    def test_acts_that_are_not_bought(self):
+        wrong = ((("most", 0, 2),), (("off", 1), ("off", 0)), (("off", 0), ("off", 0)),
+                 (("most", 0, 1), ("most", 0, 2)), (OFF[0],), [("off", 0)], (["off", 0],),
+                 (("off", True),), (("most", 0, 1), ("off", 1), ("off", 0)), ("off", 0))
+        for acts in wrong:
+            self.check(price_of, (SHOP, OFF, acts), InvalidActs)
+            self.check(is_cure, (SHOP, OFF, ("less",), acts), InvalidActs)
+        for acts in ((("off", 0),), (("most", 0, 1),)):
+            self.check(price_of, (SHOP, (), acts), InvalidActs)
+            self.check(is_cure, (SHOP, OFF[2:], ("less",), acts), InvalidActs)
+
+    def test_seven_offers(self):
+        offers = tuple((act, 1) for act in FULL_ACTS)
+        for function in OF_KINDS:
+            self.check(function, (FULL, offers[:7], ("less",)), InvalidOffers)
+        self.check(price_of, (FULL, offers[:7], ()), InvalidOffers)
+        self.check(is_cure, (FULL, offers[:7], ("less",), ()), InvalidOffers)
+
+    def test_all_kinds(self):
+        for kinds in KINDS:
+            for function in OF_KINDS:
+                function(SHOP, OFF, kinds)
+            is_cure(SHOP, OFF, kinds, ())
+        for kinds in ((), ("loss", "less"), ("less", "less"), ["less"], ("more",), "less"):
+            for function in OF_KINDS:
+                self.check(function, (SHOP, OFF, kinds), InvalidKinds)
+            self.check(is_cure, (SHOP, OFF, kinds, ()), InvalidKinds)
+
+
+class NotModified(unittest.TestCase):
+    def test_right_arguments(self):
+        for function, arguments, _ in CALLS:
+            given = copy.deepcopy(arguments)
+            first = function(*given)
+            self.assertEqual(given, arguments)
+            self.assertEqual(function(*given), first)
+
+    def test_wrong_arguments(self):
+        lists = [[[[5, 3]], [["over", 12, 3]]], [["off", [0]], {0: [1]}], ["less", "loss"], [4]]
+        for function, arguments, errors in CALLS:
+            for place, error in enumerate(errors):
+                for value in lists:
+                    given = copy.deepcopy(value)
+                    wrong = with_wrong(arguments, place, given)
+                    if error is None:
+                        self.assertIs(function(*wrong), False)
+                    else:
+                        with self.assertRaises(error):
+                            function(*wrong)
+                    self.assertEqual(given, value)
+
+
+class NewLists(unittest.TestCase):
+    def test_each_call_returns_a_new_list(self):
+        for function in (all_cheapest, sure_acts):
+            for shop, offers in ((SHOP, OFF), (SHOP, ()), ((((5, 3),), ()), ())):
+                for kinds in KINDS:
+                    first = function(shop, offers, kinds)
+                    self.assertIs(first.__class__, list)
+                    told = list(first)
+                    first.append(None)
+                    first.reverse()
+                    self.assertEqual(function(shop, offers, kinds), told)
+                    self.assertIsNot(function(shop, offers, kinds), first)
+
+    def test_kinds_of_values(self):
+        self.assertIs(least_price(SHOP, OFF, ("less",)).__class__, int)
+        self.assertIs(price_of(SHOP, OFF, ()).__class__, int)
+        self.assertIs(shop_under(SHOP, (("off", 0),)).__class__, tuple)
+        self.assertIs(shop_under(SHOP, (("off", 0),))[1].__class__, tuple)
+        for acts in all_cheapest(SHOP, OFF, ("less",)):
+            self.assertIs(acts.__class__, tuple)
