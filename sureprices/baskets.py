@@ -20,6 +20,11 @@ def baskets_of(pieces, limits):
     return [(count, pieces - count) for count in counts]
 
 
+def baskets_within(limits):
+    """Return the list of the baskets within limits of each good, the first ones (point 14) first."""
+    return [basket for pieces in range(sum(limits) + 1) for basket in baskets_of(pieces, limits)]
+
+
 def sums_within(shop, limits):
     """Return a dict of the sums of the amounts of all baskets within limits of each good."""
     sums = {(): 0}

@@ -5,7 +5,7 @@ Of the functions whose names end in `_of`, only price_of checks what it is passe
 
 from sureprices.acts import is_act, is_ascending, left_under
 from sureprices.errors import InvalidActs, InvalidKinds, InvalidOffers
-from sureprices.faults import find_less, find_loss
+from sureprices.faults import find_fault
 from sureprices.shops import check_shop, is_between, is_tuple_of
 
 MOST_OFFERS = 6
@@ -79,10 +79,7 @@ def all_bought_of(offers):
 
 def is_cure_of(shop, kinds, acts):
     """Return whether the shop under acts has no fault of the kinds in any basket."""
-    left = left_under(shop, acts)
-    if "less" in kinds and find_less(left) is not None:
-        return False
-    return "loss" not in kinds or find_loss(left) is None
+    return find_fault(left_under(shop, acts), kinds) is None
 
 
 def cheapest_of(shop, offers, kinds):

@@ -3,7 +3,7 @@
 The functions whose names begin with `find_` or end in `_of` check nothing.
 """
 
-from sureprices.baskets import baskets_of, charges_within, with_more
+from sureprices.baskets import baskets_within, charges_within, with_more
 from sureprices.charges import charge_of, costs_of, gain_of
 from sureprices.errors import NoFault
 from sureprices.growth import cycles
@@ -26,11 +26,10 @@ def find_less(shop):
     """
     limits = box_of(shop)
     charges = charges_within(shop, [limit + 1 for limit in limits])
-    for pieces in range(sum(limits) + 1):
-        for basket in baskets_of(pieces, limits):
-            for good in range(len(limits)):
-                if charges[with_more(basket, good, 1)] < charges[basket]:
-                    return ("less", basket, good)
+    for basket in baskets_within(limits):
+        for good in range(len(limits)):
+            if charges[with_more(basket, good, 1)] < charges[basket]:
+                return ("less", basket, good)
     return None
 
 
@@ -60,6 +59,19 @@ def find_loss(shop):
         if charged < costs_of(shop, basket):
             return basket
     return find_sinking(shop)
+
+
+def find_fault(shop, kinds):
+    """Return a fault of the kinds, or None."""
+    if "less" in kinds:
+        found = find_less(shop)
+        if found is not None:
+            return found
+    if "loss" in kinds:
+        basket = find_loss(shop)
+        if basket is not None:
+            return ("loss", basket)
+    return None
 
 
 def has_less(shop):

@@ -62,6 +62,12 @@ WRONG_KINDS = ODD_OBJECTS + (
     (Agreeable(),), ("less", Agreeable()), (Agreeable(), "loss"), (Touchy(),), ("less", Touchy()))
 
 
+# Objects that are not an integer from 0 to 99, nor the number of a good.
+WRONG_NUMBERS = ODD_OBJECTS + (
+    None, 100, 1000, -100, "0", "1", b"1", (0,), (1,), [1], (None,), {1: 1}, SHOP, nested(29, list),
+    10 ** 400)
+
+
 def acts_of(shop):
     """All acts of a shop, ascending."""
     found = [("off", number) for number in range(len(shop[1]))]

@@ -6,6 +6,10 @@ import random
 SHOP = (((5, 3),), (("pack", 0, 3, 9, None), ("over", 12, 3)))
 PAIR = (((5, 3), (2, 1)), (("from", 1, 4, 1), ("pack", 0, 2, 7, 1), ("each", 6, 3, None)))
 
+# The over rule is reached, by what the three before leave, from 71 pieces on.
+LATE_SHOP = (((1, 0),), (("each", 2, 1, None), ("each", 6, 6, 2), ("each", 6, 6, 2),
+                         ("over", 12, 6)))
+
 ONE_GOOD = ((5, 3),)
 TWO_GOODS = ((5, 3), (2, 1))
 

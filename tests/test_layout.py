@@ -29,6 +29,13 @@ INTERFACE = {
         "is_cure": ["shop", "offers", "kinds", "acts"],
         "least_price": ["shop", "offers", "kinds"], "all_cheapest": ["shop", "offers", "kinds"],
         "sure_acts": ["shop", "offers", "kinds"]},
+    "papers": {
+        "paper": ["shop", "offers", "kinds", "price"],
+        "is_paper": ["shop", "offers", "kinds", "price", "value"]},
+    "rules": {"idle_rules": ["shop"], "effects": ["shop", "basket"]},
+    "alike": {
+        "same_charges": ["one", "other"], "parting_basket": ["one", "other"],
+        "exchangeable": ["shop"]},
 }
 
 

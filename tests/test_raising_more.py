@@ -1,22 +1,27 @@
-"""Exceptions of the functions on faults, acts and cures, and what they leave as it is."""
+"""Exceptions of the functions after those on charges, and what they leave as it is."""
 
 import copy
 import unittest
 
 from sureprices.acts import are_acts, shop_under, touches
+from sureprices.alike import exchangeable, parting_basket, same_charges
 from sureprices.cures import (
     all_cheapest, are_offers, is_cure, least_price, price_of, sure_acts)
 from sureprices.errors import (
-    InvalidAct, InvalidActs, InvalidBasket, InvalidKinds, InvalidOffers, InvalidShop, NoFault)
+    InvalidAct, InvalidActs, InvalidBasket, InvalidKinds, InvalidNumber, InvalidOffers, InvalidShop,
+    NoFault)
 from sureprices.faults import box, first_less, has_less, has_loss, is_fault, some_loss
+from sureprices.papers import is_paper, paper
+from sureprices.rules import effects, idle_rules
 
 from tests.act_samples import (
-    FULL, FULL_ACTS, KINDS, OFF, WRONG_ACT, WRONG_ACTS, WRONG_KINDS, WRONG_OFFERS)
+    FULL, FULL_ACTS, KINDS, OFF, WRONG_ACT, WRONG_ACTS, WRONG_KINDS, WRONG_NUMBERS, WRONG_OFFERS)
 from tests.samples import PAIR, SHOP, WRONG_BASKETS, WRONG_SHOPS
 
-OF_A_SHOP = (has_less, first_less, box, has_loss, some_loss)
+OF_A_SHOP = (has_less, first_less, box, has_loss, some_loss, idle_rules, exchangeable)
 OF_A_VALUE = (is_fault, are_acts, are_offers)
 OF_KINDS = (least_price, all_cheapest, sure_acts)
+OF_TWO_SHOPS = (same_charges, parting_basket)
 
 # Each function with right arguments, and what it raises if each of them is wrong.
 CALLS = tuple((function, (SHOP,), (InvalidShop,)) for function in OF_A_SHOP) + tuple(
@@ -28,11 +33,19 @@ CALLS = tuple((function, (SHOP,), (InvalidShop,)) for function in OF_A_SHOP) + t
         (is_cure, (SHOP, OFF, ("loss",), (("off", 1),)),
          (InvalidShop, InvalidOffers, InvalidKinds, InvalidActs))) + tuple(
              (function, (SHOP, OFF, ("loss",)), (InvalidShop, InvalidOffers, InvalidKinds))
-             for function in OF_KINDS)
+             for function in OF_KINDS) + tuple(
+                 (function, (SHOP, SHOP), (InvalidShop, InvalidShop))
+                 for function in OF_TWO_SHOPS) + (
+                     (effects, (SHOP, (6,)), (InvalidShop, InvalidBasket)),
+                     (paper, (SHOP, OFF, ("loss",), 3),
+                      (InvalidShop, InvalidOffers, InvalidKinds, InvalidNumber)),
+                     (is_paper, (SHOP, OFF, ("loss",), 3, [((), ("dear",))]),
+                      (InvalidShop, InvalidOffers, InvalidKinds, InvalidNumber, None)))
 
 WRONG = {
     InvalidShop: WRONG_SHOPS, InvalidActs: WRONG_ACTS, InvalidAct: WRONG_ACT,
-    InvalidBasket: WRONG_BASKETS, InvalidOffers: WRONG_OFFERS, InvalidKinds: WRONG_KINDS}
+    InvalidBasket: WRONG_BASKETS, InvalidOffers: WRONG_OFFERS, InvalidKinds: WRONG_KINDS,
+    InvalidNumber: WRONG_NUMBERS}
 
 
 def with_wrong(arguments, place, value):
@@ -106,6 +119,8 @@ class Raising(unittest.TestCase):
         for function in OF_KINDS:
             self.check(function, (FULL, offers[:7], ("less",)), InvalidOffers)
         self.check(price_of, (FULL, offers[:7], ()), InvalidOffers)
+        self.check(paper, (FULL, offers[:7], ("less",), 3), InvalidOffers)
+        self.check(is_paper, (FULL, offers[:7], ("less",), 3, []), InvalidOffers)
         self.check(is_cure, (FULL, offers[:7], ("less",), ()), InvalidOffers)
 
     def test_all_kinds(self):
@@ -113,10 +128,26 @@ class Raising(unittest.TestCase):
             for function in OF_KINDS:
                 function(SHOP, OFF, kinds)
             is_cure(SHOP, OFF, kinds, ())
+            paper(SHOP, OFF, kinds, 3)
         for kinds in ((), ("loss", "less"), ("less", "less"), ["less"], ("more",), "less"):
             for function in OF_KINDS:
                 self.check(function, (SHOP, OFF, kinds), InvalidKinds)
             self.check(is_cure, (SHOP, OFF, kinds, ()), InvalidKinds)
+            self.check(paper, (SHOP, OFF, kinds, 3), InvalidKinds)
+            self.check(is_paper, (SHOP, OFF, kinds, 3, []), InvalidKinds)
+
+    def test_prices_of_papers(self):
+        for price in (-1, 100, True, False, None, "3", 10 ** 5000):
+            self.check(paper, (SHOP, OFF, ("less",), price), InvalidNumber)
+            self.check(is_paper, (SHOP, OFF, ("less",), price, []), InvalidNumber)
+        for price in (0, 1, 99):
+            paper(SHOP, OFF, ("less",), price)
+            self.assertIs(is_paper(SHOP, OFF, ("less",), price, []), False)
+
+    def test_baskets_of_effects(self):
+        for basket in ((10 ** 6 + 1,), (1, 1), (), (-1,), [1], (True,)):
+            self.check(effects, (SHOP, basket), InvalidBasket)
+        effects(SHOP, (10 ** 6,))
 
 
 class NotModified(unittest.TestCase):
@@ -147,13 +178,31 @@ class NewLists(unittest.TestCase):
         for function in (all_cheapest, sure_acts):
             for shop, offers in ((SHOP, OFF), (SHOP, ()), ((((5, 3),), ()), ())):
                 for kinds in KINDS:
-                    first = function(shop, offers, kinds)
-                    self.assertIs(first.__class__, list)
-                    told = list(first)
-                    first.append(None)
-                    first.reverse()
-                    self.assertEqual(function(shop, offers, kinds), told)
-                    self.assertIsNot(function(shop, offers, kinds), first)
+                    self.check_new(function, shop, offers, kinds)
+
+    def check_new(self, function, *arguments):
+        first = function(*arguments)
+        self.assertIs(first.__class__, list)
+        told = list(first)
+        first.append(None)
+        first.reverse()
+        self.assertEqual(function(*arguments), told)
+        self.assertIsNot(function(*arguments), function(*arguments))
+
+    def test_lists_of_papers_and_rules(self):
+        for shop in (SHOP, PAIR, FULL, (((5, 3),), ())):
+            self.check_new(paper, shop, (), ("less",), 0)
+            self.check_new(idle_rules, shop)
+            self.check_new(exchangeable, shop)
+            self.check_new(effects, shop, (4,) * len(shop[0]))
+        for kinds in KINDS:
+            self.check_new(paper, SHOP, OFF, kinds, 3)
+
+    def test_the_looked_through_paper_stays(self):
+        entries = paper(SHOP, OFF, ("less", "loss"), 4)
+        given = copy.deepcopy(entries)
+        self.assertIs(is_paper(SHOP, OFF, ("less", "loss"), 4, given), True)
+        self.assertEqual(given, entries)
 
     def test_kinds_of_values(self):
         self.assertIs(least_price(SHOP, OFF, ("less",)).__class__, int)
