@@ -36,7 +36,18 @@ INTERFACE = {
     "alike": {
         "same_charges": ["one", "other"], "parting_basket": ["one", "other"],
         "exchangeable": ["shop"]},
+    "greater": {"least_above": ["shop", "basket"], "fewest_more": ["shop", "basket"]},
+    "texts": {"format_shop": ["shop"], "parse_shop": ["text"]},
+    "till": {"Till": None},
+    "naive": {
+        "naive_less": ["shop", "most"], "naive_least_price": ["shop", "offers", "kinds"]},
 }
+
+# The methods of the till, which stand in its class itself.
+METHODS = {
+    "__init__": ["self", "shop"], "__eq__": ["self", "other"], "__len__": ["self"],
+    "__str__": ["self"], "put": ["self", "good"], "take": ["self", "good"], "basket": ["self"],
+    "undo": ["self"], "duplicate": ["self"]}
 
 
 def tree_of(path):
@@ -54,6 +65,28 @@ class Interface(unittest.TestCase):
             for part, arguments in parts.items():
                 self.assertIn(part, found)
                 self.assertEqual(found[part], arguments)
+
+
+    def test_methods_of_the_till(self):
+        body = tree_of(PACKAGE / "till.py").body
+        till = [node for node in body if isinstance(node, ast.ClassDef)][0]
+        found = {node.name: [argument.arg for argument in node.args.args]
+                 for node in till.body if isinstance(node, ast.FunctionDef)}
+        for name, arguments in METHODS.items():
+            self.assertEqual(found[name], arguments)
+
+
+class Imports(unittest.TestCase):
+    def test_nothing_from_outside(self):
+        """No clock, no randomness and no files: nothing is imported that has any of these."""
+        for path in sorted(PACKAGE.glob("*.py")):
+            for node in ast.walk(tree_of(path)):
+                self.assertNotIsInstance(node, ast.Import, path)
+                if isinstance(node, ast.ImportFrom):
+                    top = node.module.split(".")[0]
+                    self.assertIn(top, ("sureprices", "math"), path)
+                if isinstance(node, ast.Name):
+                    self.assertNotIn(node.id, ("open", "print", "input", "id", "hash"), path)
 
 
 class Sizes(unittest.TestCase):

@@ -1,51 +1,22 @@
-"""Exceptions of the functions after those on charges, and what they leave as it is."""
+"""Exceptions of all functions of the interface, and what they leave as it is."""
 
 import copy
 import unittest
 
-from sureprices.acts import are_acts, shop_under, touches
-from sureprices.alike import exchangeable, parting_basket, same_charges
-from sureprices.cures import (
-    all_cheapest, are_offers, is_cure, least_price, price_of, sure_acts)
+from sureprices.acts import shop_under, touches
+from sureprices.alike import exchangeable
+from sureprices.cures import all_cheapest, is_cure, least_price, price_of, sure_acts
 from sureprices.errors import (
     InvalidAct, InvalidActs, InvalidBasket, InvalidKinds, InvalidNumber, InvalidOffers, InvalidShop,
     NoFault)
-from sureprices.faults import box, first_less, has_less, has_loss, is_fault, some_loss
+from sureprices.faults import first_less, some_loss
 from sureprices.papers import is_paper, paper
 from sureprices.rules import effects, idle_rules
 
-from tests.act_samples import (
-    FULL, FULL_ACTS, KINDS, OFF, WRONG_ACT, WRONG_ACTS, WRONG_KINDS, WRONG_NUMBERS, WRONG_OFFERS)
-from tests.samples import PAIR, SHOP, WRONG_BASKETS, WRONG_SHOPS
-
-OF_A_SHOP = (has_less, first_less, box, has_loss, some_loss, idle_rules, exchangeable)
-OF_A_VALUE = (is_fault, are_acts, are_offers)
-OF_KINDS = (least_price, all_cheapest, sure_acts)
-OF_TWO_SHOPS = (same_charges, parting_basket)
-
-# Each function with right arguments, and what it raises if each of them is wrong.
-CALLS = tuple((function, (SHOP,), (InvalidShop,)) for function in OF_A_SHOP) + tuple(
-    (function, (SHOP, ()), (InvalidShop, None)) for function in OF_A_VALUE) + (
-        (shop_under, (SHOP, (("off", 1),)), (InvalidShop, InvalidActs)),
-        (touches, (SHOP, (("off", 1),), ("most", 0, 1), (6,)),
-         (InvalidShop, InvalidActs, InvalidAct, InvalidBasket)),
-        (price_of, (SHOP, OFF, (("off", 1),)), (InvalidShop, InvalidOffers, InvalidActs)),
-        (is_cure, (SHOP, OFF, ("loss",), (("off", 1),)),
-         (InvalidShop, InvalidOffers, InvalidKinds, InvalidActs))) + tuple(
-             (function, (SHOP, OFF, ("loss",)), (InvalidShop, InvalidOffers, InvalidKinds))
-             for function in OF_KINDS) + tuple(
-                 (function, (SHOP, SHOP), (InvalidShop, InvalidShop))
-                 for function in OF_TWO_SHOPS) + (
-                     (effects, (SHOP, (6,)), (InvalidShop, InvalidBasket)),
-                     (paper, (SHOP, OFF, ("loss",), 3),
-                      (InvalidShop, InvalidOffers, InvalidKinds, InvalidNumber)),
-                     (is_paper, (SHOP, OFF, ("loss",), 3, [((), ("dear",))]),
-                      (InvalidShop, InvalidOffers, InvalidKinds, InvalidNumber, None)))
-
-WRONG = {
-    InvalidShop: WRONG_SHOPS, InvalidActs: WRONG_ACTS, InvalidAct: WRONG_ACT,
-    InvalidBasket: WRONG_BASKETS, InvalidOffers: WRONG_OFFERS, InvalidKinds: WRONG_KINDS,
-    InvalidNumber: WRONG_NUMBERS}
+from tests.act_samples import FULL, FULL_ACTS, KINDS, OFF
+from tests.calls import CALLS, OF_KINDS, WRONG
+from tests.samples import PAIR, SHOP
+from tests.test_layout import INTERFACE
 
 
 def with_wrong(arguments, place, value):
@@ -53,6 +24,12 @@ def with_wrong(arguments, place, value):
 
 
 class Raising(unittest.TestCase):
+    def test_all_functions_are_called(self):
+        called = sorted(function.__name__ for function, _, _ in CALLS)
+        listed = [name for parts in INTERFACE.values()
+                  for name, arguments in parts.items() if arguments is not None]
+        self.assertEqual(called, sorted(listed))
+
     def check(self, function, arguments, error):
         with self.assertRaises(error) as caught:
             function(*arguments)
