@@ -1,6 +1,6 @@
 """Baskets that contain a basket: the least charge of them, and the first one that is charged less.
 
-The functions whose names end in `_above` and `contains` check nothing, but least_above does.
+Only check_few, least_above and fewest_more check what they are passed.
 """
 
 from sureprices.baskets import baskets_within, charges_within

@@ -1,6 +1,6 @@
 """Papers: why no bought acts below a price are a cure, in a form that a judge looks through.
 
-Of the functions of this file, check_asked, paper and is_paper check the arguments before the value.
+Only check_asked, paper and is_paper check what they are passed.
 """
 
 from sureprices.acts import is_ascending, left_under, touches_under
